@@ -8,6 +8,7 @@ import (
 	"borrowdale/api"
 	"borrowdale/decl"
 	"borrowdale/kind"
+	"borrowdale/sample"
 )
 
 // some is declarations of all sorts, which are right.
@@ -40,10 +41,10 @@ func TestCopyDrops(t *testing.T) {
 		"E": {false, false}, "P<'1>": {true, false}, "Q": {false, false}, "U<'1>": {false, false}, "B": {false, true}, "O<'1, '2>": {false, true}, "L<'1, '2>": {false, true},
 		"V": {false, true}, "W<'1>": {false, true}, "X<'1>": {false, false}, "K": {false, false}, "Z": {false, false}, "Z<'1>": {false, false}, "e": {false, false},
 	} {
-		if got := decl.Copy(l, ty(s)); got != want[0] {
+		if got := decl.Copy(l, sample.Type(s)); got != want[0] {
 			t.Errorf("%s is copied: %v", s, got)
 		}
-		if got := decl.Drops(l, ty(s)); got != want[1] {
+		if got := decl.Drops(l, sample.Type(s)); got != want[1] {
 			t.Errorf("%s needs a drop: %v", s, got)
 		}
 	}
@@ -52,7 +53,7 @@ func TestCopyDrops(t *testing.T) {
 			t.Errorf("%v is copied, or needs a drop", x)
 		}
 	}
-	if decl.Copy(nil, ty("P<'1>")) || decl.Drops(nil, ty("B")) || !decl.Copy(nil, ty("int")) || !decl.Drops(nil, ty("Vec[B]")) {
+	if decl.Copy(nil, sample.Type("P<'1>")) || decl.Drops(nil, sample.Type("B")) || !decl.Copy(nil, sample.Type("int")) || !decl.Drops(nil, sample.Type("Vec[B]")) {
 		t.Error("nothing is declared")
 	}
 }
@@ -81,7 +82,7 @@ func TestFind(t *testing.T) {
 	if got, ok := decl.Find(twice, ""); !ok || got.At != 0 {
 		t.Errorf("not the first without a name: %v", got)
 	}
-	odd := []api.Data{{Name: "Y", Choice: true, Copy: true, Regions: -7, At: -3, Parts: []api.Part{{Name: "A", Names: []string{"", "a"}, Types: []api.Type{{Kind: 9, Name: "x", Region: 5, Unique: true, Regs: []int{3}, Args: tys("int;bool")}}}}}}
+	odd := []api.Data{{Name: "Y", Choice: true, Copy: true, Regions: -7, At: -3, Parts: []api.Part{{Name: "A", Names: []string{"", "a"}, Types: []api.Type{{Kind: 9, Name: "x", Region: 5, Unique: true, Regs: []int{3}, Args: sample.Types("int;bool")}}}}}}
 	if got, ok := decl.Find(odd, "Y"); !ok || !alike([]api.Data{got}, odd) {
 		t.Errorf("what isn't right: %v", got)
 	}
@@ -99,13 +100,13 @@ func TestPart(t *testing.T) {
 		{"O<'3, '4>", 0, ""}, {"O<'3, '4>", 1, "&'4 int;&'3 mut &'4 int"}, {"O<'3, '4>", 2, "int;Box[L<'4, '3>]"}, {"O<'2, '1>", 1, "&'1 int;&'2 mut &'1 int"}, {"O<'2, '2>", 2, "int;Box[L<'2, '2>]"},
 		{"L<'7, '8>", 0, "O<'8, '7>"}, {"V", 1, "int;Q"}, {"V", 2, "E;B"}, {"X<'9>", 0, "&'9 V;&'9 mut B;Q;E;P<'9>"},
 	} {
-		got, ok := decl.Part(l, ty(c.t), c.part)
-		if !ok || !sameTypes(got, tys(c.want)) {
+		got, ok := decl.Part(l, sample.Type(c.t), c.part)
+		if !ok || !sample.SameTypes(got, sample.Types(c.want)) {
 			t.Errorf("%s %d: %v %v", c.t, c.part, got, ok)
 		}
 		for _, x := range got {
 			for _, r := range kind.Regions(x) {
-				if !slices.Contains(ty(c.t).Regs, r) {
+				if !slices.Contains(sample.Type(c.t).Regs, r) {
 					t.Errorf("%s %d has the region %d", c.t, c.part, r)
 				}
 			}
@@ -118,16 +119,16 @@ func TestPart(t *testing.T) {
 		{"E", -1}, {"E", 1}, {"E", 1 << 62}, {"E", -1 << 63}, {"O<'1, '2>", -1}, {"O<'1, '2>", 3}, {"K", 0}, {"K", -1}, {"Z", 0}, {"Z<'1>", 0},
 		{"O", 0}, {"O<'1>", 0}, {"O<'1, '2, '3>", 0}, {"E<'1>", 0}, {"P", 0}, {"P<'1, '1>", 0}, {"int", 0}, {"unit", 0}, {"Box[E]", 0}, {"Vec[E]", 0}, {"&'1 E", 0},
 	} {
-		if got, ok := decl.Part(l, ty(c.t), c.part); ok || len(got) > 0 {
+		if got, ok := decl.Part(l, sample.Type(c.t), c.part); ok || len(got) > 0 {
 			t.Errorf("%s %d: %v %v", c.t, c.part, got, ok)
 		}
 	}
-	for _, x := range []api.Type{{}, {Name: "E"}, {Kind: api.KInt, Name: "E"}, {Kind: 8, Name: "E"}, {Kind: api.KRef, Name: "E", Args: tys("E")}} {
+	for _, x := range []api.Type{{}, {Name: "E"}, {Kind: api.KInt, Name: "E"}, {Kind: 8, Name: "E"}, {Kind: api.KRef, Name: "E", Args: sample.Types("E")}} {
 		if got, ok := decl.Part(l, x, 0); ok || len(got) > 0 {
 			t.Errorf("%v: %v %v", x, got, ok)
 		}
 	}
-	if got, ok := decl.Part(nil, ty("E"), 0); ok || len(got) > 0 {
+	if got, ok := decl.Part(nil, sample.Type("E"), 0); ok || len(got) > 0 {
 		t.Error("it is in no list")
 	}
 }
@@ -197,7 +198,7 @@ func TestMemory(t *testing.T) {
 		for part := range d.Parts {
 			fields, _ := decl.Part(l, x, part)
 			for i := range fields {
-				spoilType(&fields[i])
+				sample.SpoilType(&fields[i])
 			}
 		}
 		v := decl.Variance(l, d.Name)
@@ -216,9 +217,9 @@ func TestMemory(t *testing.T) {
 		t.Error("declarations are written into")
 	}
 	kept, _ := decl.Find(l, "O")
-	types, _ := decl.Part(l, ty("O<'3, '4>"), 1)
+	types, _ := decl.Part(l, sample.Type("O<'3, '4>"), 1)
 	spoil(l)
-	if !alike([]api.Data{kept}, before[5:6]) || !sameTypes(types, tys("&'4 int;&'3 mut &'4 int")) {
+	if !alike([]api.Data{kept}, before[5:6]) || !sample.SameTypes(types, sample.Types("&'4 int;&'3 mut &'4 int")) {
 		t.Error("what was answered hangs on the declarations")
 	}
 }

@@ -10,6 +10,7 @@ import (
 	"borrowdale/api"
 	"borrowdale/decl"
 	"borrowdale/kind"
+	"borrowdale/sample"
 	"borrowdale/tree"
 )
 
@@ -35,7 +36,7 @@ func (c *chance) region(count int) int {
 // aType is a type within a declaration with so many regions, at most so deep.
 func (c *chance) aType(count, deep int) api.Type {
 	if c.slip() {
-		return []api.Type{{}, {Kind: 8}, {Kind: api.KData}, {Kind: api.KBox}, {Kind: api.KInt, Name: "a"}, ty("Q"), ty("Q<'1>")}[c.Intn(7)]
+		return []api.Type{{}, {Kind: 8}, {Kind: api.KData}, {Kind: api.KBox}, {Kind: api.KInt, Name: "a"}, sample.Type("Q"), sample.Type("Q<'1>")}[c.Intn(7)]
 	}
 	if deep > 1 && c.Intn(2) == 0 {
 		in := []api.Type{c.aType(count, deep-1)}
@@ -165,7 +166,7 @@ func (c *chance) checkRight(t *testing.T, l []api.Data) int {
 		}
 		for part := range d.Parts {
 			fields, ok := decl.Part(l, x, part)
-			if want := modelFields(d, x, part); !ok || !sameTypes(fields, want) {
+			if want := modelFields(d, x, part); !ok || !sample.SameTypes(fields, want) {
 				t.Fatalf("%s %d has %v, not %v", d.Name, part, fields, want)
 			}
 			types = append(types, fields...)
@@ -182,7 +183,7 @@ func (c *chance) checkRight(t *testing.T, l []api.Data) int {
 
 // modelFields is a part's types for a type of the declaration.
 func modelFields(d api.Data, x api.Type, part int) []api.Type {
-	l := cloneTypes(d.Parts[part].Types)
+	l := sample.CloneTypes(d.Parts[part].Types)
 	var put func(t *api.Type)
 	put = func(t *api.Type) {
 		if t.Kind == api.KRef {
@@ -313,7 +314,7 @@ func TestCollectChance(t *testing.T) {
 		}
 		want := modelRight(l)
 		seen[want.Kind]++
-		got, f := decl.Collect(program(t, s))
+		got, f := decl.Collect(sample.Program(s))
 		if f != want || f.Kind == api.OK && !alike(got, l) || f.Kind != api.OK && len(got) > 0 {
 			t.Fatalf("%s\n%v, not %v\n%v\n%v", s, f, want, got, l)
 		}

@@ -8,6 +8,7 @@ import (
 	"borrowdale/api"
 	"borrowdale/decl"
 	"borrowdale/expand"
+	"borrowdale/sample"
 	"borrowdale/tree"
 )
 
@@ -36,12 +37,12 @@ func TestCollect(t *testing.T) {
 			[]api.Data{structOf("S", 2, "&'2 mut &'1 int;Vec[T<'2, '1, '2>]"), at(65, choiceOf("T", 3, "N", "S &'3 S<'2, '1>"))}},
 		{"fn f(s: U) -> int { 1 } struct S { f0: C, f1: C } fn S() {} choice C { A } fn S() {}", []api.Data{at(24, structOf("S", 0, "C;C")), at(60, choiceOf("C", 0, "A"))}},
 		{"struct S<'a, 'b> { f0: S2<'b> } struct S2<'a> { f0: &'a int }", []api.Data{structOf("S", 2, "S2<'2>"), at(32, structOf("S2", 1, "&'1 int"))}},
-		{"struct S { S: int } choice C { C, S }", []api.Data{{Name: "S", Parts: []api.Part{{Names: []string{"S"}, Types: tys("int")}}}, at(20, choiceOf("C", 0, "C", "S"))}},
-		{"struct S { b: int, a: bool } struct T { a: unit }", []api.Data{{Name: "S", Parts: []api.Part{{Names: []string{"b", "a"}, Types: tys("int;bool")}}}, {Name: "T", At: 29, Parts: []api.Part{{Names: []string{"a"}, Types: tys("unit")}}}}},
+		{"struct S { S: int } choice C { C, S }", []api.Data{{Name: "S", Parts: []api.Part{{Names: []string{"S"}, Types: sample.Types("int")}}}, at(20, choiceOf("C", 0, "C", "S"))}},
+		{"struct S { b: int, a: bool } struct T { a: unit }", []api.Data{{Name: "S", Parts: []api.Part{{Names: []string{"b", "a"}, Types: sample.Types("int;bool")}}}, {Name: "T", At: 29, Parts: []api.Part{{Names: []string{"a"}, Types: sample.Types("unit")}}}}},
 		{"struct P[T] { a: T, a: U } struct S { f0: int } struct P {} choice P[S]<'a, 'a> { N, N } struct S[T] {} fn f[S]() {}", []api.Data{at(27, structOf("S", 0, "int")), at(48, structOf("P", 0, ""))}},
 		{"struct A { f0: Box[B], f1: Vec[A] } struct B { f0: A }", []api.Data{structOf("A", 0, "Box[B];Vec[A]"), at(36, structOf("B", 0, "A"))}},
 	} {
-		n := program(t, c.source)
+		n := sample.Program(c.source)
 		before := tree.Copy(n)
 		got, f := decl.Collect(n)
 		if f != (api.Fault{}) || !alike(got, c.want) {
@@ -133,9 +134,9 @@ func TestCollectErrors(t *testing.T) {
 		{"@copy struct S<'a> { a: &'a mut int }", api.ErrCopy},
 		{"copy struct S { a: int } @copy struct T { a: S, b: U } struct U { a: int }", api.ErrCopy},
 	} {
-		s, place := marked(c.source)
+		s, place := sample.Marked(c.source)
 		seen[c.want]++
-		n := program(t, s)
+		n := sample.Program(s)
 		got, f := decl.Collect(n)
 		if f != (api.Fault{Kind: c.want, At: place}) || len(got) > 0 {
 			t.Errorf("%.200s: %v, not %d at %d; %d declarations", c.source, f, c.want, place, len(got))
@@ -174,12 +175,12 @@ func TestCollectLimits(t *testing.T) {
 
 // P8.1: what is expanded declares its instances.
 func TestCollectExpanded(t *testing.T) {
-	n, f := expand.Expand(program(t, "choice List[T] { Nil, Cons(T, Box[List[T]]) } struct G[T]<'a> { g: &'a T } struct H<'b> { h: G[List[int]]<'b> }"))
+	n, f := expand.Expand(sample.Program("choice List[T] { Nil, Cons(T, Box[List[T]]) } struct G[T]<'a> { g: &'a T } struct H<'b> { h: G[List[int]]<'b> }"))
 	if f != (api.Fault{}) {
 		t.Fatal(f)
 	}
 	l, f := decl.Collect(n)
-	if f != (api.Fault{}) || len(l) != 3 || l[0].Name != "H" || !decl.Drops(l, ty("List__i")) || decl.Drops(l, ty("H<'1>")) {
+	if f != (api.Fault{}) || len(l) != 3 || l[0].Name != "H" || !decl.Drops(l, sample.Type("List__i")) || decl.Drops(l, sample.Type("H<'1>")) {
 		t.Error(f, l)
 	}
 }

@@ -8,33 +8,12 @@ import (
 
 	"borrowdale/api"
 	"borrowdale/decl"
-	"borrowdale/kind"
-	"borrowdale/parse"
+	"borrowdale/sample"
 )
-
-// ty is the type of a text (layer 7).
-func ty(s string) api.Type {
-	t, e := kind.Parse(s)
-	if e != api.OK {
-		panic("no type: " + s)
-	}
-	return t
-}
-
-// tys is the types of a text, parted by ";".
-func tys(s string) []api.Type {
-	var l []api.Type
-	for _, x := range strings.Split(s, ";") {
-		if x = strings.TrimSpace(x); x != "" {
-			l = append(l, ty(x))
-		}
-	}
-	return l
-}
 
 // structOf is a struct with fields f0, f1 and so on, of the types of a text.
 func structOf(name string, regions int, fields string) api.Data {
-	return structWith(name, regions, tys(fields)...)
+	return structWith(name, regions, sample.Types(fields)...)
 }
 
 // structWith is a struct with fields f0, f1 and so on, of these types.
@@ -51,7 +30,7 @@ func choiceOf(name string, regions int, cases ...string) api.Data {
 	d := api.Data{Name: name, Choice: true, Regions: regions}
 	for _, c := range cases {
 		part, rest, _ := strings.Cut(c, " ")
-		d.Parts = append(d.Parts, api.Part{Name: part, Types: tys(rest)})
+		d.Parts = append(d.Parts, api.Part{Name: part, Types: sample.Types(rest)})
 	}
 	return d
 }
@@ -70,29 +49,13 @@ func placed(l ...api.Data) []api.Data {
 	return l
 }
 
-// cloneType is a type in new memory, without empty lists.
-func cloneType(t api.Type) api.Type {
-	t.Regs = append([]int(nil), t.Regs...)
-	t.Args = cloneTypes(t.Args)
-	return t
-}
-
-// cloneTypes is types in new memory.
-func cloneTypes(l []api.Type) []api.Type {
-	var all []api.Type
-	for _, t := range l {
-		all = append(all, cloneType(t))
-	}
-	return all
-}
-
 // clone is declarations in new memory, without empty lists.
 func clone(l []api.Data) []api.Data {
 	var all []api.Data
 	for _, d := range l {
 		var parts []api.Part
 		for _, p := range d.Parts {
-			parts = append(parts, api.Part{Name: p.Name, Names: append([]string(nil), p.Names...), Types: cloneTypes(p.Types)})
+			parts = append(parts, api.Part{Name: p.Name, Names: append([]string(nil), p.Names...), Types: sample.CloneTypes(p.Types)})
 		}
 		d.Parts = parts
 		all = append(all, d)
@@ -103,22 +66,8 @@ func clone(l []api.Data) []api.Data {
 // alike is whether two lists of declarations are the same.
 func alike(a, b []api.Data) bool { return reflect.DeepEqual(clone(a), clone(b)) }
 
-// sameTypes is whether two lists of types are the same.
-func sameTypes(a, b []api.Type) bool { return reflect.DeepEqual(cloneTypes(a), cloneTypes(b)) }
-
 // sameType is whether two types are the same.
-func sameType(a, b api.Type) bool { return reflect.DeepEqual(cloneType(a), cloneType(b)) }
-
-// spoilType writes into all that a type holds.
-func spoilType(t *api.Type) {
-	t.Name, t.Region = "spoilt", -99
-	for i := range t.Regs {
-		t.Regs[i] = -99
-	}
-	for i := range t.Args {
-		spoilType(&t.Args[i])
-	}
-}
+func sameType(a, b api.Type) bool { return reflect.DeepEqual(sample.CloneType(a), sample.CloneType(b)) }
 
 // spoil writes into all that declarations hold.
 func spoil(l []api.Data) {
@@ -131,35 +80,16 @@ func spoil(l []api.Data) {
 				p.Names[k] = "spoilt"
 			}
 			for k := range p.Types {
-				spoilType(&p.Types[k])
+				sample.SpoilType(&p.Types[k])
 			}
 		}
 	}
 }
 
-// program is the tree of a source.
-func program(t *testing.T, s string) api.Node {
-	t.Helper()
-	n, f := parse.Program(s)
-	if f != (api.Fault{}) {
-		t.Fatalf("%v in\n%.300s", f, s)
-	}
-	return n
-}
-
-// marked is a source without its @, and where that stood (0 without one).
-func marked(s string) (string, int) {
-	before, after, ok := strings.Cut(s, "@")
-	if !ok {
-		return s, 0
-	}
-	return before + after, len(before)
-}
-
 // collected is what a source that is taken declares.
 func collected(t *testing.T, s string) []api.Data {
 	t.Helper()
-	l, f := decl.Collect(program(t, s))
+	l, f := decl.Collect(sample.Program(s))
 	if f != (api.Fault{}) {
 		t.Fatalf("%v in\n%.300s", f, s)
 	}

@@ -8,6 +8,7 @@ import (
 
 	"borrowdale/api"
 	"borrowdale/decl"
+	"borrowdale/sample"
 )
 
 // faultOf is what Right tells of declarations that stand at 100, 110 and so on: the error, and which declaration it is.
@@ -56,7 +57,7 @@ func TestRightTaken(t *testing.T) {
 	}
 	long := strings.Repeat("n", 200)
 	expects(t, "names of 200 letters", []api.Data{
-		{Name: long, Parts: []api.Part{{Names: []string{long}, Types: tys("int")}}},
+		{Name: long, Parts: []api.Part{{Names: []string{long}, Types: sample.Types("int")}}},
 		{Name: "C", Choice: true, Parts: []api.Part{{Name: long}}},
 	}, api.OK, -1)
 	expects(t, "empty lists", []api.Data{{Name: "S", Parts: []api.Part{{Names: []string{}, Types: []api.Type{}}}}, {Name: "C", Choice: true, Parts: []api.Part{}}, {Name: "D", Choice: true, Parts: []api.Part{{Name: "A", Names: []string{}, Types: []api.Type{}}}}}, api.OK, -1)
@@ -76,7 +77,7 @@ func wrongRows() []wrongRow {
 	}
 	filled := func(d api.Data) api.Data {
 		for i := range d.Parts[0].Types {
-			d.Parts[0].Types[i] = ty("int")
+			d.Parts[0].Types[i] = sample.Type("int")
 		}
 		return d
 	}
@@ -95,11 +96,11 @@ func wrongRows() []wrongRow {
 		{"no part", api.Data{Name: "X"}, api.ErrType},
 		{"two parts", api.Data{Name: "X", Parts: []api.Part{{}, {Name: "A"}}}, api.ErrType},
 		{"a struct's part with a name", api.Data{Name: "X", Parts: []api.Part{{Name: "A"}}}, api.ErrType},
-		{"more Names than types", api.Data{Name: "X", Parts: []api.Part{{Names: []string{"a", "b"}, Types: tys("int")}}}, api.ErrType},
-		{"fewer Names than types", api.Data{Name: "X", Parts: []api.Part{{Names: []string{"a"}, Types: tys("int;int")}}}, api.ErrType},
+		{"more Names than types", api.Data{Name: "X", Parts: []api.Part{{Names: []string{"a", "b"}, Types: sample.Types("int")}}}, api.ErrType},
+		{"fewer Names than types", api.Data{Name: "X", Parts: []api.Part{{Names: []string{"a"}, Types: sample.Types("int;int")}}}, api.ErrType},
 		{"Names without types", filled(api.Data{Name: "X", Parts: []api.Part{{Names: []string{"a"}}}}), api.ErrType},
-		{"types without Names", api.Data{Name: "X", Parts: []api.Part{{Types: tys("int")}}}, api.ErrType},
-		{"a choice with Names", api.Data{Name: "X", Choice: true, Parts: []api.Part{{Name: "A"}, {Name: "B", Names: []string{"a"}, Types: tys("int")}}}, api.ErrType},
+		{"types without Names", api.Data{Name: "X", Parts: []api.Part{{Types: sample.Types("int")}}}, api.ErrType},
+		{"a choice with Names", api.Data{Name: "X", Choice: true, Parts: []api.Part{{Name: "A"}, {Name: "B", Names: []string{"a"}, Types: sample.Types("int")}}}, api.ErrType},
 		{"a case without a name", choiceOf("X", 0, "A", ""), api.ErrType},
 	}
 	for _, s := range []string{"", "int", "bool", "unit", "1a", "a b", "a-", "é", strings.Repeat("n", 201)} {
@@ -118,15 +119,15 @@ func wrongRows() []wrongRow {
 			return api.Type{Kind: api.KRef, Region: 1, Unique: true, Args: []api.Type{{Kind: api.KVec, Args: []api.Type{t}}}}
 		},
 	} {
-		for _, x := range []api.Type{{}, {Kind: 8}, {Kind: api.KBox}, {Kind: api.KInt, Region: 1}, {Kind: api.KData, Name: "int"}, ty("U"), ty("U<'1>"), ty("s<'1>"), {Kind: api.KData, Name: "S", Regs: []int{501}}, {Kind: api.KData, Name: "S", Regs: []int{-1}}, {Kind: api.KRef, Region: -1, Args: tys("int")}, {Kind: api.KBox, Args: tys("int;int")}} {
+		for _, x := range []api.Type{{}, {Kind: 8}, {Kind: api.KBox}, {Kind: api.KInt, Region: 1}, {Kind: api.KData, Name: "int"}, sample.Type("U"), sample.Type("U<'1>"), sample.Type("s<'1>"), {Kind: api.KData, Name: "S", Regs: []int{501}}, {Kind: api.KData, Name: "S", Regs: []int{-1}}, {Kind: api.KRef, Region: -1, Args: sample.Types("int")}, {Kind: api.KBox, Args: sample.Types("int;int")}} {
 			rows = append(rows,
-				wrongRow{"the type", structWith("X", 3, ty("int"), about(x)), api.ErrType},
-				wrongRow{"the case's type", api.Data{Name: "X", Choice: true, Regions: 3, Parts: []api.Part{{Name: "A"}, {Name: "B", Types: []api.Type{ty("int"), about(x)}}}}, api.ErrType})
+				wrongRow{"the type", structWith("X", 3, sample.Type("int"), about(x)), api.ErrType},
+				wrongRow{"the case's type", api.Data{Name: "X", Choice: true, Regions: 3, Parts: []api.Part{{Name: "A"}, {Name: "B", Types: []api.Type{sample.Type("int"), about(x)}}}}, api.ErrType})
 		}
 		for _, x := range []string{"&int", "&'4 int", "&'500 mut int", "S<'0>", "S<'4>", "S<'500>", "S", "S<'1, '1>", "T<'1>", "T", "T<'1, '2, '3>", "X", "X<'1, '2>", "X<'1, '2, '4>", "&'1 &'4 int"} {
 			rows = append(rows,
-				wrongRow{"the region of " + x, structWith("X", 3, ty("int"), about(ty(x))), api.ErrRegion},
-				wrongRow{"the case's region of " + x, api.Data{Name: "X", Choice: true, Regions: 3, Parts: []api.Part{{Name: "A"}, {Name: "B", Types: []api.Type{ty("int"), about(ty(x))}}}}, api.ErrRegion})
+				wrongRow{"the region of " + x, structWith("X", 3, sample.Type("int"), about(sample.Type(x))), api.ErrRegion},
+				wrongRow{"the case's region of " + x, api.Data{Name: "X", Choice: true, Regions: 3, Parts: []api.Part{{Name: "A"}, {Name: "B", Types: []api.Type{sample.Type("int"), about(sample.Type(x))}}}}, api.ErrRegion})
 		}
 	}
 	return append(rows,
@@ -161,7 +162,7 @@ func TestRightErrors(t *testing.T) {
 
 // deepType is a type so deep, whose innermost is that of a text.
 func deepType(deep int, s string) api.Type {
-	t := ty(s)
+	t := sample.Type(s)
 	for range deep - 1 {
 		t = api.Type{Kind: api.KBox, Args: []api.Type{t}}
 	}
@@ -199,17 +200,17 @@ func TestRightOrder(t *testing.T) {
 		}
 		switch e {
 		case api.ErrTwice:
-			field("twice", ty("int"))
-			field("twice", ty("int"))
+			field("twice", sample.Type("int"))
+			field("twice", sample.Type("int"))
 		case api.ErrType:
-			field("type", ty("U"))
+			field("type", sample.Type("U"))
 		case api.ErrRegion:
-			field("region", ty("&'9 int"))
+			field("region", sample.Type("&'9 int"))
 		case api.ErrSize:
 			field("size", api.Type{Kind: api.KData, Name: d.Name})
 		case api.ErrCopy:
 			d.Copy = true
-			field("copy", ty("Box[int]"))
+			field("copy", sample.Type("Box[int]"))
 		}
 	}
 	for i, a := range order {
@@ -287,7 +288,7 @@ func doubled(count int, copies bool, last string) []api.Data {
 // P8.1, rule 7: what is held in very many ways is gone through once.
 func TestDoubled(t *testing.T) {
 	for _, count := range []int{1, 2, 60, 3000} {
-		top := ty("D0<'7, '8>")
+		top := sample.Type("D0<'7, '8>")
 		plain, owning := doubled(count, true, "int;&'1 int"), doubled(count, false, "int;Vec[&'1 mut &'2 int]")
 		expects(t, "each one twice", plain, api.OK, -1)
 		expects(t, "each one twice, with a vector", owning, api.OK, -1)

@@ -9,6 +9,7 @@ import (
 	"borrowdale/decl"
 	"borrowdale/kind"
 	"borrowdale/parse"
+	"borrowdale/sample"
 	"borrowdale/tree"
 )
 
@@ -48,7 +49,7 @@ func TestType(t *testing.T) {
 		{"&int", 500, "&'500 int", 501}, {"&&int", 499, "&'499 &'500 int", 501}, {"T", 499, "T<'499, '500>", 501}, {"&L", 499, "&'499 L<'500>", 501}, {"&'a L<'b>", 501, "&'1 L<'2>", 501},
 	} {
 		got, next, f := typeOf(t, c.source, []string{"'a", "'b", "'c", "'a", "'b"}, c.fresh)
-		if f != (api.Fault{}) || next != c.next || !sameType(got, ty(c.want)) {
+		if f != (api.Fault{}) || next != c.next || !sameType(got, sample.Type(c.want)) {
 			t.Errorf("%s, from %d on: %s, %d, %v", c.source, c.fresh, kind.Text(got), next, f)
 		}
 	}
@@ -72,7 +73,7 @@ func TestTypeErrors(t *testing.T) {
 		{"@&int", 501, api.ErrType}, {"@&mut int", 1 << 62, api.ErrType}, {"@&int", 1<<63 - 1, api.ErrType}, {"@L", 501, api.ErrType}, {"@T", 500, api.ErrType}, {"@T", 501, api.ErrType}, {"@M", 482, api.ErrType}, {"@M", 1<<63 - 1, api.ErrType},
 		{"@&'z int", 501, api.ErrRegion}, {"@U", 501, api.ErrType}, {"@T<'a>", 501, api.ErrRegion}, {"&'a @U", 501, api.ErrType}, {"@& U", 501, api.ErrType}, {"& @U", 500, api.ErrType}, {"& @&'z int", 500, api.ErrRegion}, {"@&&'z int", 501, api.ErrType},
 	} {
-		s, at := marked(c.source)
+		s, at := sample.Marked(c.source)
 		seen[c.want]++
 		got, next, f := typeOf(t, s, []string{"'a", "'b"}, c.fresh)
 		if f != (api.Fault{Kind: c.want, At: at}) || next != c.fresh || !sameType(got, api.Type{}) {
@@ -173,8 +174,8 @@ func TestTypeOdd(t *testing.T) {
 	regions := []string{"'a", "'b"}
 	l := named()
 	got, _, _ := decl.Type(l, n, regions, 1)
-	spoilType(&got)
-	if again, _, _ := decl.Type(l, n, regions, 1); !tree.Same(n, before) || !alike(l, named()) || !sameType(again, ty("&'1 mut Vec[T<'1, '2>]")) {
+	sample.SpoilType(&got)
+	if again, _, _ := decl.Type(l, n, regions, 1); !tree.Same(n, before) || !alike(l, named()) || !sameType(again, sample.Type("&'1 mut Vec[T<'1, '2>]")) {
 		t.Error("something is written into")
 	}
 	ring := []api.Node{{Kind: api.TBox, At: 3}}

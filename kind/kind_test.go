@@ -8,6 +8,7 @@ import (
 
 	"borrowdale/api"
 	"borrowdale/kind"
+	"borrowdale/sample"
 )
 
 // clone is a type in new memory, without empty lists.
@@ -188,8 +189,8 @@ func TestSameDeep(t *testing.T) {
 		if !kind.Same(within(deep-1, aInt), within(deep-1, aInt)) || kind.Same(within(deep-1, aInt), within(deep-1, aBool)) || kind.Same(within(deep-1, aInt), within(deep, aInt)) {
 			t.Errorf("%d deep", deep)
 		}
-		a, b := doubled(deep, aInt), doubled(deep, aInt)
-		if !kind.Same(a, b) || !kind.Same(a, a) || kind.Same(a, doubled(deep, aBool)) || deep > 1 && kind.Right(a) {
+		a, b := sample.Doubled(deep, aInt), sample.Doubled(deep, aInt)
+		if !kind.Same(a, b) || !kind.Same(a, a) || kind.Same(a, sample.Doubled(deep, aBool)) || deep > 1 && kind.Right(a) {
 			t.Errorf("%d deep, each one twice", deep)
 		}
 		if got := kind.Depth(a); got != deep {
@@ -330,7 +331,7 @@ func TestMemory(t *testing.T) {
 
 // Beyond what is promised there is an end: of types that hold more than can be counted, or that lie in themselves.
 func TestEnd(t *testing.T) {
-	for _, x := range append(endless(), doubled(100, ref(1, aInt)), within(1<<17, aInt)) {
+	for _, x := range append(sample.Endless(), sample.Doubled(100, ref(1, aInt)), within(1<<17, aInt)) {
 		kind.Right(x)
 		kind.Same(x, x)
 		kind.Same(x, clonedOnce(x))
@@ -344,7 +345,7 @@ func TestEnd(t *testing.T) {
 			t.Error("it is right")
 		}
 	}
-	for _, x := range endless() {
+	for _, x := range sample.Endless() {
 		if kind.Depth(x) != 0 || kind.Text(x) != "" || len(kind.Regions(x)) > 0 || !alike(kind.Erase(x), api.Type{}) {
 			t.Error("something is told of what has no end")
 		}

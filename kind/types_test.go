@@ -150,22 +150,3 @@ func odd() []made {
 		{t: within(80, ref(3, aInt)), regs: []int{3}, depth: 82},
 	}
 }
-
-// doubled is a type so deep that each of them holds the next one twice; it ends in last.
-func doubled(deep int, last api.Type) api.Type {
-	t := last
-	for range deep - 1 {
-		t = api.Type{Kind: api.KBox, Args: []api.Type{t, t}}
-	}
-	return t
-}
-
-// endless is types that lie in themselves.
-func endless() []api.Type {
-	one := make([]api.Type, 1)
-	one[0] = api.Type{Kind: api.KRef, Region: 1, Args: one}
-	two := make([]api.Type, 2)
-	two[0] = api.Type{Kind: api.KBox, Args: two}
-	two[1] = api.Type{Kind: api.KRef, Args: []api.Type{two[0]}}
-	return []api.Type{one[0], two[0], two[1]}
-}
